@@ -1,0 +1,110 @@
+package schemas
+
+import (
+	"slices"
+	"strconv"
+	"strings"
+	"testing"
+
+	"veil/api"
+	"veil/value"
+)
+
+func read(t *testing.T, text string) *Schema {
+	t.Helper()
+	s, e := Read(text)
+	if e != api.OK {
+		t.Fatalf("Read(%q): error %d", text, e)
+	}
+	return s
+}
+
+func TestReadKeepsWhatIsWritten(t *testing.T) {
+	s := read(t, `union U = P | Query role user role boss : user type Query { me(id: ID): P! }
+		interface N { list(first: Int): [[Int!]]! @hide(user) @auth(boss) } type P implements N { a: ID list(first: Int): [[Int!]]! @auth(boss) @hide(user) }`)
+	if want := []Named{{"U"}, {"Query"}, {"N"}, {"P"}}; !slices.Equal(s.Names, want) {
+		t.Errorf("names are %v, want %v", s.Names, want)
+	}
+	for name, want := range map[string]Kind{"U": UnionKind, "Query": ObjectKind, "N": InterfaceKind, "P": ObjectKind, "ID": ScalarKind, "Int": ScalarKind, "String": ScalarKind, "Boolean": ScalarKind, "user": Unknown, "": Unknown, "int": Unknown} {
+		if got := s.Kind(name); got != want {
+			t.Errorf("kind of %q is %d, want %d", name, got, want)
+		}
+	}
+	if got := s.Union("U").Members; !slices.Equal(got, []string{"P", "Query"}) {
+		t.Errorf("members are %v", got)
+	}
+	if got := s.Role("boss").Includes; !slices.Equal(got, []string{"user"}) || s.Role("P") != nil {
+		t.Errorf("the boss includes %v", got)
+	}
+	if got := s.Object("P").Implements; !slices.Equal(got, []string{"N"}) {
+		t.Errorf("P implements %v", got)
+	}
+	me := s.Object("Query").Field("me")
+	if me.Argument != (Argument{Named{"id"}, "ID"}) || me.Type.Name != "P" || !me.Type.Strict || me.Type.Kind != Single || me.Auth != "" || me.Hide != "" {
+		t.Errorf("me is %v", me)
+	}
+	f := s.Interface("N").Field("list")
+	if f.Argument != (Argument{Named{"first"}, "Int"}) || f.Auth != "boss" || f.Hide != "user" || typeText(f.Type) != "[[Int!]]!" || f.Type.Innermost().Name != "Int" {
+		t.Errorf("list is %v, of type %s", f, typeText(f.Type))
+	}
+}
+
+func typeText(t *Type) string {
+	text := t.Name
+	if t.Kind == List {
+		text = "[" + typeText(t.Inner) + "]"
+	}
+	if t.Strict {
+		text += "!"
+	}
+	return text
+}
+
+func ruleText(r *Rule) string {
+	var parts []string
+	for _, p := range r.Parts {
+		parts = append(parts, ruleText(p))
+	}
+	switch r.Kind {
+	case Or:
+		return "(" + strings.Join(parts, "|") + ")"
+	case And:
+		return "(" + strings.Join(parts, "&") + ")"
+	case Not:
+		return "!" + parts[0]
+	case All:
+		return "all"
+	case Is:
+		return "is " + r.Name
+	}
+	return r.Name + "=" + strconv.Itoa(int(r.Value.Kind)) + ":" + strconv.Itoa(r.Value.Number) + r.Value.Text
+}
+
+func TestRules(t *testing.T) {
+	number, text, viewer := strconv.Itoa(int(value.Number)), strconv.Itoa(int(value.String)), strconv.Itoa(int(value.Viewer))
+	for rule, want := range map[string]string{
+		"all":                              "((all))",
+		"not not all":                      "((!!all))",
+		"not all and is user":              "((!all&is user))",
+		"all or all and all or is user":    "((all)|(all&all)|(is user))",
+		"(all or all) and not(is user)":    "((((all)|(all))&!((is user))))",
+		"a = -7":                           "((a=" + number + ":-7))",
+		`or = "x" or and = viewer and all`: "((or=" + text + ":0x)|(and=" + viewer + ":0&all))",
+	} {
+		s := read(t, "role user type Query { a: Int } type P @rows("+rule+") { a: Int or: String and: ID! }")
+		if got := ruleText(s.Object("P").Rule); got != want {
+			t.Errorf("rule %q is %s, want %s", rule, got, want)
+		}
+	}
+	if s := read(t, "type Query { a: Int }"); s.Object("Query").Rule != nil {
+		t.Error("a rule that nobody wrote")
+	}
+}
+
+func TestReadGivesNothingBesideAnError(t *testing.T) {
+	for text, want := range map[string]api.Errno{"type": api.ErrSyntax, "role a": api.ErrSchema} {
+		if s, e := Read(text); s != nil || e != want {
+			t.Errorf("Read(%q) = %v, %d, want nil, %d", text, s, e, want)
+		}
+	}
+}
