@@ -82,7 +82,7 @@ func (s *Schema) unionsRight() bool {
 }
 
 func (s *Schema) queryRight() bool {
-	q := s.Object("Query")
+	q := s.Object(Query)
 	return q != nil && q.Rule == nil
 }
 

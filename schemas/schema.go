@@ -18,6 +18,9 @@ const (
 	UnionKind
 )
 
+// Query is the name of the object at which every query begins.
+const Query = "Query"
+
 // Named is what all that has a name is made of.
 type Named struct {
 	Name string
@@ -43,6 +46,9 @@ type Field struct {
 	Argument Argument
 	Type     *Type
 }
+
+// TakesID tells whether a field has an argument `id`: it makes a row by that, and no cell is of it.
+func (f *Field) TakesID() bool { return f.Argument.Name == "id" }
 
 // Fielded is what objects and interfaces are made of.
 type Fielded struct {
@@ -123,6 +129,31 @@ func (s *Schema) Kind(name string) Kind {
 		return UnionKind
 	}
 	return Unknown
+}
+
+// Had tells the roles that a role has: itself, and those that it includes, by way of others or not. There are none if it is no role.
+func (s *Schema) Had(role string) []string {
+	at := places(s.Roles)
+	place, ok := at[role]
+	if !ok {
+		return nil
+	}
+	had := []string{role}
+	for i, reached := range s.included(place, at) {
+		if reached {
+			had = append(had, s.Roles[i].Name)
+		}
+	}
+	return had
+}
+
+// Of tells whether an object is of the type of this name.
+func (s *Schema) Of(o *Object, name string) bool {
+	if o.Name == name || slices.Contains(o.Implements, name) {
+		return true
+	}
+	u := s.Union(name)
+	return u != nil && slices.Contains(u.Members, o.Name)
 }
 
 func isScalar(name string) bool {

@@ -108,3 +108,36 @@ func TestReadGivesNothingBesideAnError(t *testing.T) {
 		}
 	}
 }
+
+func TestHad(t *testing.T) {
+	s := read(t, "role a: b c role b: d role c: d role d role e: a type Query { a: Int }")
+	for role, want := range map[string]string{"a": "a b c d", "b": "b d", "c": "c d", "d": "d", "e": "a b c d e", "": "", "f": "", "Query": ""} {
+		got := s.Had(role)
+		slices.Sort(got)
+		if strings.Join(got, " ") != want {
+			t.Errorf("%q has %v, want %s", role, got, want)
+		}
+	}
+}
+
+func TestOf(t *testing.T) {
+	s := read(t, "type Query implements N { a: Int } interface N { a: Int } interface M { a: Int } union U = P | Query union V = Q type P implements M N { a: Int } type Q { a: Int }")
+	for object, want := range map[string]string{"Query": "Query N U", "P": "N M U P", "Q": "V Q"} {
+		var got []string
+		for _, n := range append(s.Names, Named{"Int"}, Named{""}, Named{"X"}) {
+			if s.Of(s.Object(object), n.Name) {
+				got = append(got, n.Name)
+			}
+		}
+		if strings.Join(got, " ") != want {
+			t.Errorf("%s is of %v, want %s", object, got, want)
+		}
+	}
+}
+
+func TestTakesID(t *testing.T) {
+	q := read(t, "type Query { id: ID by(id: ID): Query l(first: Int): [Int] }").Object(Query)
+	if q.Field("id").TakesID() || !q.Field("by").TakesID() || q.Field("l").TakesID() {
+		t.Error("an argument id is not known by its name")
+	}
+}

@@ -1,4 +1,4 @@
-// Package value has the values that rules tell.
+// Package value has the values that texts tell.
 package value
 
 import "veil/token"
@@ -6,7 +6,7 @@ import "veil/token"
 // Kind says what a value is.
 type Kind int
 
-// Viewer stands for the id of whoever looks.
+// Viewer stands for the id of whoever looks, and only in rules. A Reference, a List and a Fault are only in cells.
 const (
 	Null Kind = iota
 	Number
@@ -14,9 +14,12 @@ const (
 	True
 	False
 	Viewer
+	Reference
+	List
+	Fault
 )
 
-// Value is a value: Number and Text are what a number and a string tell.
+// Value is a value: Number is what a number tells, Text what a string tells, or the id that a reference names.
 type Value struct {
 	Kind   Kind
 	Number int
@@ -49,4 +52,17 @@ func word(r *token.Reader, name string) Value {
 	}
 	r.Fail()
 	return Value{}
+}
+
+// IsOf tells whether a value is one of this scalar's own. Null is of none: whether it may stand for one is not the scalar's to say.
+func (v Value) IsOf(scalar string) bool {
+	switch v.Kind {
+	case Number:
+		return scalar == "Int"
+	case String:
+		return scalar == "String" || scalar == "ID"
+	case True, False:
+		return scalar == "Boolean"
+	}
+	return false
 }

@@ -33,3 +33,18 @@ func TestReadWrong(t *testing.T) {
 		}
 	}
 }
+
+func TestIsOf(t *testing.T) {
+	scalars := []string{"Int", "String", "ID", "Boolean", "", "int", "Value"}
+	for kind, want := range map[Kind]string{Null: "", Number: "Int ", String: "String ID ", True: "Boolean ", False: "Boolean ", Viewer: "", Reference: "", List: "", Fault: ""} {
+		got := ""
+		for _, s := range scalars {
+			if (Value{Kind: kind}).IsOf(s) {
+				got += s + " "
+			}
+		}
+		if got != want {
+			t.Errorf("kind %d is of %q, want %q", kind, got, want)
+		}
+	}
+}

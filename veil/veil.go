@@ -4,6 +4,8 @@ package veil
 import (
 	"veil/api"
 	"veil/schemas"
+	"veil/stores"
+	"veil/views"
 )
 
 // Server answers asks.
@@ -16,7 +18,21 @@ func Check(schema string) api.Errno {
 }
 
 // Sees tells what a viewer sees of a store (P4).
-func Sees(schema string, rows []api.Row, v api.Viewer) ([]api.Row, api.Errno) { return nil, api.OK }
+func Sees(schema string, rows []api.Row, v api.Viewer) ([]api.Row, api.Errno) {
+	s, e := schemas.Read(schema)
+	if e != api.OK {
+		return nil, e
+	}
+	store, e := stores.Read(s, rows)
+	if e != api.OK {
+		return nil, e
+	}
+	view, e := views.Of(s, v)
+	if e != api.OK {
+		return nil, e
+	}
+	return view.Rows(store), api.OK
+}
 
 // New makes a server (P5).
 func New(schema string, rows []api.Row) (*Server, api.Errno) { return nil, api.OK }
