@@ -1,6 +1,10 @@
 package schemas
 
-import "strings"
+import (
+	"strings"
+
+	"veil/value"
+)
 
 func (s *Schema) right() bool {
 	return s.rolesRight() && s.namesRight() && s.objectsRight() && s.interfacesRight() && s.unionsRight() && s.queryRight()
@@ -46,7 +50,7 @@ func (s *Schema) included(place int, at map[string]int) []bool {
 
 func (s *Schema) namesRight() bool {
 	for _, n := range s.Names {
-		if isScalar(n.Name) {
+		if value.IsScalar(n.Name) {
 			return false
 		}
 	}
@@ -159,5 +163,5 @@ func (s *Schema) ruleRight(r *Rule, o *Object) bool {
 
 // fitsRule tells whether a rule may name this field.
 func fitsRule(f *Field) bool {
-	return f != nil && f.Type.Kind == Single && isScalar(f.Type.Name) && f.Auth == "" && f.Hide == "" && f.Argument.Name == ""
+	return f != nil && f.Type.Kind == Single && value.IsScalar(f.Type.Name) && f.Auth == "" && f.Hide == "" && f.Argument.Name == ""
 }

@@ -5,6 +5,7 @@ import (
 	"slices"
 
 	"veil/api"
+	"veil/value"
 )
 
 // Kind says what a name stands for where a type is named.
@@ -116,10 +117,24 @@ func (s *Schema) Interface(name string) *Interface { return find(s.Interfaces, n
 // Union tells the union of this name, or nil.
 func (s *Schema) Union(name string) *Union { return find(s.Unions, name) }
 
+// Fields tells the fields of the type of this name: none if it is neither an object nor an interface.
+func (s *Schema) Fields(name string) []Field {
+	if o := s.Object(name); o != nil {
+		return o.Fields
+	}
+	if i := s.Interface(name); i != nil {
+		return i.Fields
+	}
+	return nil
+}
+
+// Field tells a field of the type of this name, or nil.
+func (s *Schema) Field(typ, name string) *Field { return find(s.Fields(typ), name) }
+
 // Kind tells what a type's name stands for.
 func (s *Schema) Kind(name string) Kind {
 	switch {
-	case isScalar(name):
+	case value.IsScalar(name):
 		return ScalarKind
 	case s.Object(name) != nil:
 		return ObjectKind
@@ -156,12 +171,9 @@ func (s *Schema) Of(o *Object, name string) bool {
 	return u != nil && slices.Contains(u.Members, o.Name)
 }
 
-func isScalar(name string) bool {
-	switch name {
-	case "Int", "String", "Boolean", "ID":
-		return true
-	}
-	return false
+// Meet tells whether there is an object that is of both types.
+func (s *Schema) Meet(a, b string) bool {
+	return slices.ContainsFunc(s.Objects, func(o Object) bool { return s.Of(&o, a) && s.Of(&o, b) })
 }
 
 // caller is whatever embeds Named.

@@ -141,3 +141,20 @@ func TestTakesID(t *testing.T) {
 		t.Error("an argument id is not known by its name")
 	}
 }
+
+func TestFieldsOfTypes(t *testing.T) {
+	s := read(t, "type Query { a: Int b: P } interface N { a: Int } interface M { b: Int } union U = P | Query union V = Query type P implements N { c: Int a: Int }")
+	for name, want := range map[string]int{"Query": 2, "N": 1, "P": 2, "U": 0, "Int": 0, "Nothing": 0, "": 0} {
+		if got := s.Fields(name); len(got) != want || (got == nil) != (want == 0) {
+			t.Errorf("%q has %d fields, want %d", name, len(got), want)
+		}
+	}
+	if f := s.Field("P", "a"); f == nil || f != s.Object("P").Field("a") || s.Field("P", "b") != nil || s.Field("U", "a") != nil || s.Field("N", "a") != s.Interface("N").Field("a") {
+		t.Error("fields are not found by their types")
+	}
+	for pair, want := range map[[2]string]bool{{"P", "P"}: true, {"P", "N"}: true, {"N", "P"}: true, {"N", "U"}: true, {"P", "Query"}: false, {"N", "V"}: false, {"U", "V"}: true, {"M", "M"}: false, {"N", "M"}: false, {"Int", "Int"}: false, {"Nothing", "P"}: false} {
+		if s.Meet(pair[0], pair[1]) != want {
+			t.Errorf("%v meet: %v", pair, !want)
+		}
+	}
+}

@@ -69,10 +69,10 @@ func (s *Store) allFit(items []Content, t *schemas.Type) bool {
 
 // mayRefer tells whether a reference to this id may stand where the type of this name is asked for. A list's type has no name.
 func (s *Store) mayRefer(id, name string) bool {
-	switch s.schema.Kind(name) {
+	switch s.Schema.Kind(name) {
 	case schemas.Unknown, schemas.ScalarKind:
 		return false
 	}
 	r := s.Row(id)
-	return r == nil || r.Object.Name != schemas.Query && s.schema.Of(r.Object, name)
+	return r == nil || r.Object.Name != schemas.Query && s.Schema.Of(r.Object, name)
 }

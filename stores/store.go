@@ -3,6 +3,7 @@ package stores
 
 import (
 	"slices"
+	"strings"
 
 	"veil/api"
 	"veil/schemas"
@@ -22,16 +23,16 @@ type Row struct {
 	Cells  []Cell
 }
 
-// Store has rows, in their order.
+// Store has rows, in their order. Once it is read it is not changed any more, so that many may look at it at once.
 type Store struct {
 	Rows   []Row
-	schema *schemas.Schema
+	Schema *schemas.Schema
 	places map[string]int // of the rows, by their ids
 }
 
 // Read makes a store of rows. The error is ErrStore if they are none.
 func Read(schema *schemas.Schema, rows []api.Row) (*Store, api.Errno) {
-	s := &Store{schema: schema, places: map[string]int{}}
+	s := &Store{Schema: schema, places: map[string]int{}}
 	if len(rows) > api.MaxRows || !s.addAll(rows) || !s.fillAll(rows) {
 		return nil, api.ErrStore
 	}
@@ -45,6 +46,46 @@ func (s *Store) Row(id string) *Row {
 		return nil
 	}
 	return &s.Rows[place]
+}
+
+// Put makes a store in which this row has the place of the one with its id, or the last one. The error is ErrStore if that is none.
+func (s *Store) Put(row api.Row) (*Store, api.Errno) {
+	rows := s.told()
+	if place, ok := s.places[row.ID]; ok {
+		rows[place] = row
+	} else {
+		rows = append(rows, row)
+	}
+	return Read(s.Schema, rows)
+}
+
+// Drop makes a store without the row that has this id. The error is ErrNone if there is no such row.
+func (s *Store) Drop(id string) (*Store, api.Errno) {
+	place, ok := s.places[id]
+	if !ok {
+		return nil, api.ErrNone
+	}
+	return Read(s.Schema, slices.Delete(s.told(), place, place+1))
+}
+
+// told tells the rows as they are handed in.
+func (s *Store) told() []api.Row {
+	rows := make([]api.Row, len(s.Rows))
+	for i := range s.Rows {
+		rows[i] = s.Rows[i].Told(func(*schemas.Field) bool { return true })
+	}
+	return rows
+}
+
+// Told tells a row as it is handed in, with the cells of just those fields.
+func (r *Row) Told(has func(*schemas.Field) bool) api.Row {
+	row := api.Row{Type: r.Object.Name, ID: r.ID}
+	for _, c := range r.Cells {
+		if has(c.Field) {
+			row.Cells = append(row.Cells, api.Cell{Name: c.Field.Name, Text: c.Text})
+		}
+	}
+	return row
 }
 
 // Content tells what the row has at this field: a cell that is not there is null.
@@ -72,12 +113,13 @@ func (s *Store) addAll(rows []api.Row) bool {
 }
 
 func (s *Store) add(r api.Row) bool {
-	o := s.schema.Object(r.Type)
+	o := s.Schema.Object(r.Type)
 	if o == nil || s.Row(r.ID) != nil || (r.ID == "") != (r.Type == schemas.Query) {
 		return false
 	}
-	s.places[r.ID] = len(s.Rows)
-	s.Rows = append(s.Rows, Row{Object: o, ID: r.ID})
+	id := strings.Clone(r.ID)
+	s.places[id] = len(s.Rows)
+	s.Rows = append(s.Rows, Row{Object: o, ID: id})
 	return true
 }
 
@@ -102,6 +144,6 @@ func (s *Store) fill(r *Row, c api.Cell) bool {
 	if !ok || !s.fits(content, f.Type) {
 		return false
 	}
-	r.Cells = append(r.Cells, Cell{Field: f, Text: c.Text, Content: content})
+	r.Cells = append(r.Cells, Cell{Field: f, Text: strings.Clone(c.Text), Content: content})
 	return true
 }

@@ -73,3 +73,44 @@ func TestReadOfNoStore(t *testing.T) {
 		}
 	}
 }
+
+// ids tells the ids of a store's rows, and what they have at s.
+func ids(s *Store) string {
+	text := ""
+	for i := range s.Rows {
+		text += s.Rows[i].ID + s.Rows[i].Content("s").Text + " "
+	}
+	return text
+}
+
+func TestPutAndDrop(t *testing.T) {
+	first, e := Read(schema(t), []api.Row{{Type: "P", ID: "a"}, {Type: "P", ID: "b"}, {Type: "P", ID: "c"}})
+	if e != api.OK {
+		t.Fatalf("Read: error %d", e)
+	}
+	cells := []api.Cell{{Name: "s", Text: `"x"`}}
+	second, e := first.Put(api.Row{Type: "P", ID: "b", Cells: cells})
+	third, f := second.Put(api.Row{Type: "P", ID: "d", Cells: cells})
+	last, g := third.Drop("b")
+	if e != api.OK || f != api.OK || g != api.OK {
+		t.Fatalf("errors %d, %d, %d", e, f, g)
+	}
+	cells[0].Text = `"y"`
+	for i, c := range []struct {
+		s    *Store
+		want string
+	}{{first, "a b c "}, {second, "a bx c "}, {third, "a bx c dx "}, {last, "a c dx "}} {
+		if got := ids(c.s); got != c.want {
+			t.Errorf("store %d has %q, want %q", i, got, c.want)
+		}
+	}
+	if last.Row("b") != nil || last.Row("d") != &last.Rows[2] {
+		t.Error("rows are not found where they are")
+	}
+	if s, e := last.Drop("b"); s != nil || e != api.ErrNone {
+		t.Errorf("Drop of no row: %v, %d", s, e)
+	}
+	if s, e := last.Put(api.Row{Type: "N", ID: "a"}); s != nil || e != api.ErrStore {
+		t.Errorf("Put of no row: %v, %d", s, e)
+	}
+}

@@ -38,7 +38,7 @@ const (
 	maxDigits = 9
 )
 
-// Token is a piece of a text: Text is a name as it is written, or what a string says; Number is what a number tells.
+// Token is a piece of a text: Text is a name as it is written, or what a string says; Number is what a number tells. It shares no memory with the text, so that it may be kept.
 type Token struct {
 	Kind   Kind
 	Text   string
@@ -85,7 +85,7 @@ func first(text string) (Token, int) {
 		return number(text)
 	case isWord(c):
 		size := wordSize(text)
-		return Token{Kind: Name, Text: text[:size]}, size
+		return Token{Kind: Name, Text: strings.Clone(text[:size])}, size
 	case c == '"':
 		return quoted(text)
 	case strings.HasPrefix(text, spread):

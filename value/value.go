@@ -6,7 +6,7 @@ import "veil/token"
 // Kind says what a value is.
 type Kind int
 
-// Viewer stands for the id of whoever looks, and only in rules. A Reference, a List and a Fault are only in cells.
+// Viewer stands for the id of whoever looks, and only in rules. A Reference, a List and a Fault are only in cells, a Variable only in queries.
 const (
 	Null Kind = iota
 	Number
@@ -17,9 +17,10 @@ const (
 	Reference
 	List
 	Fault
+	Variable
 )
 
-// Value is a value: Number is what a number tells, Text what a string tells, or the id that a reference names.
+// Value is a value: Number is what a number tells, Text what a string tells, the id that a reference names, or a variable's name.
 type Value struct {
 	Kind   Kind
 	Number int
@@ -54,6 +55,15 @@ func word(r *token.Reader, name string) Value {
 	return Value{}
 }
 
+// IsScalar tells whether this is a scalar's name.
+func IsScalar(name string) bool {
+	switch name {
+	case "Int", "String", "Boolean", "ID":
+		return true
+	}
+	return false
+}
+
 // IsOf tells whether a value is one of this scalar's own. Null is of none: whether it may stand for one is not the scalar's to say.
 func (v Value) IsOf(scalar string) bool {
 	switch v.Kind {
@@ -65,4 +75,12 @@ func (v Value) IsOf(scalar string) bool {
 		return scalar == "Boolean"
 	}
 	return false
+}
+
+// Fits tells whether a value may stand for a scalar: null may if the scalar is not strict.
+func (v Value) Fits(scalar string, strict bool) bool {
+	if v.Kind == Null {
+		return !strict
+	}
+	return v.IsOf(scalar)
 }

@@ -36,7 +36,7 @@ func TestReadWrong(t *testing.T) {
 
 func TestIsOf(t *testing.T) {
 	scalars := []string{"Int", "String", "ID", "Boolean", "", "int", "Value"}
-	for kind, want := range map[Kind]string{Null: "", Number: "Int ", String: "String ID ", True: "Boolean ", False: "Boolean ", Viewer: "", Reference: "", List: "", Fault: ""} {
+	for kind, want := range map[Kind]string{Null: "", Number: "Int ", String: "String ID ", True: "Boolean ", False: "Boolean ", Viewer: "", Reference: "", List: "", Fault: "", Variable: ""} {
 		got := ""
 		for _, s := range scalars {
 			if (Value{Kind: kind}).IsOf(s) {
@@ -45,6 +45,25 @@ func TestIsOf(t *testing.T) {
 		}
 		if got != want {
 			t.Errorf("kind %d is of %q, want %q", kind, got, want)
+		}
+	}
+}
+
+func TestIsScalar(t *testing.T) {
+	for name, want := range map[string]bool{"Int": true, "String": true, "Boolean": true, "ID": true, "": false, "int": false, "Id": false, "Float": false, "Query": false} {
+		if IsScalar(name) != want {
+			t.Errorf("%q is a scalar: %v", name, !want)
+		}
+	}
+}
+
+func TestFits(t *testing.T) {
+	for _, strict := range []bool{false, true} {
+		if (Value{}).Fits("Int", strict) == strict {
+			t.Errorf("null where it is strict %v: %v", strict, strict)
+		}
+		if !(Value{Kind: Number}).Fits("Int", strict) || (Value{Kind: Number}).Fits("ID", strict) || (Value{Kind: Variable}).Fits("Int", strict) {
+			t.Errorf("numbers and variables do not fit as they should where it is strict %v", strict)
 		}
 	}
 }

@@ -2,14 +2,20 @@
 package veil
 
 import (
+	"sync"
+
+	"veil/answers"
 	"veil/api"
 	"veil/schemas"
 	"veil/stores"
 	"veil/views"
 )
 
-// Server answers asks.
-type Server struct{}
+// Server answers asks, of many at once. A store is never changed: another one takes its place, so that an ask is answered of one store from its beginning to its end.
+type Server struct {
+	mutex sync.Mutex
+	store *stores.Store
+}
 
 // Check tells whether a schema is right (P3).
 func Check(schema string) api.Errno {
@@ -17,17 +23,22 @@ func Check(schema string) api.Errno {
 	return e
 }
 
-// Sees tells what a viewer sees of a store (P4).
-func Sees(schema string, rows []api.Row, v api.Viewer) ([]api.Row, api.Errno) {
+// read makes a store of a schema and rows.
+func read(schema string, rows []api.Row) (*stores.Store, api.Errno) {
 	s, e := schemas.Read(schema)
 	if e != api.OK {
 		return nil, e
 	}
-	store, e := stores.Read(s, rows)
+	return stores.Read(s, rows)
+}
+
+// Sees tells what a viewer sees of a store (P4).
+func Sees(schema string, rows []api.Row, v api.Viewer) ([]api.Row, api.Errno) {
+	store, e := read(schema, rows)
 	if e != api.OK {
 		return nil, e
 	}
-	view, e := views.Of(s, v)
+	view, e := views.Of(store.Schema, v)
 	if e != api.OK {
 		return nil, e
 	}
@@ -35,16 +46,44 @@ func Sees(schema string, rows []api.Row, v api.Viewer) ([]api.Row, api.Errno) {
 }
 
 // New makes a server (P5).
-func New(schema string, rows []api.Row) (*Server, api.Errno) { return nil, api.OK }
+func New(schema string, rows []api.Row) (*Server, api.Errno) {
+	store, e := read(schema, rows)
+	if e != api.OK {
+		return nil, e
+	}
+	return &Server{store: store}, api.OK
+}
 
 // Put brings a row into the store (P5).
-func (s *Server) Put(row api.Row) api.Errno { return api.OK }
+func (s *Server) Put(row api.Row) api.Errno {
+	return s.change(func(old *stores.Store) (*stores.Store, api.Errno) { return old.Put(row) })
+}
 
 // Drop takes a row out of the store (P5).
-func (s *Server) Drop(id string) api.Errno { return api.OK }
+func (s *Server) Drop(id string) api.Errno {
+	return s.change(func(old *stores.Store) (*stores.Store, api.Errno) { return old.Drop(id) })
+}
+
+// change puts another store in the place of the one that is kept, unless there is an error.
+func (s *Server) change(next func(*stores.Store) (*stores.Store, api.Errno)) api.Errno {
+	s.mutex.Lock()
+	defer s.mutex.Unlock()
+	store, e := next(s.store)
+	if e == api.OK {
+		s.store = store
+	}
+	return e
+}
+
+// kept tells the store as it is now.
+func (s *Server) kept() *stores.Store {
+	s.mutex.Lock()
+	defer s.mutex.Unlock()
+	return s.store
+}
 
 // Serve answers an ask (P6).
-func (s *Server) Serve(a api.Ask) string { return "" }
+func (s *Server) Serve(a api.Ask) string { return answers.Answer(s.kept(), a) }
 
 // ServeAll answers some asks (P7).
 func (s *Server) ServeAll(asks []api.Ask) ([]string, api.Errno) { return nil, api.OK }

@@ -36,6 +36,18 @@ func (v *View) Closed(f *schemas.Field) bool { return !v.may(f.Auth) }
 // Hidden tells whether a field is hidden to the viewer.
 func (v *View) Hidden(f *schemas.Field) bool { return !v.may(f.Hide) }
 
+// sees tells whether the viewer sees the cells of a field.
+func (v *View) sees(f *schemas.Field) bool { return !v.Closed(f) && !v.Hidden(f) }
+
+// Row tells the row that has this id, or nil: one that is hidden is like one that is not there.
+func (v *View) Row(s *stores.Store, id string) *stores.Row {
+	r := s.Row(id)
+	if r == nil || v.HiddenRow(r) {
+		return nil
+	}
+	return r
+}
+
 // HiddenRow tells whether a row is hidden from the viewer.
 func (v *View) HiddenRow(r *stores.Row) bool {
 	rule := r.Object.Rule
@@ -73,18 +85,8 @@ func (v *View) Rows(s *stores.Store) []api.Row {
 	var rows []api.Row
 	for i := range s.Rows {
 		if r := &s.Rows[i]; !v.HiddenRow(r) {
-			rows = append(rows, v.row(r))
+			rows = append(rows, r.Told(v.sees))
 		}
 	}
 	return rows
-}
-
-func (v *View) row(r *stores.Row) api.Row {
-	row := api.Row{Type: r.Object.Name, ID: r.ID}
-	for _, c := range r.Cells {
-		if !v.Closed(c.Field) && !v.Hidden(c.Field) {
-			row.Cells = append(row.Cells, api.Cell{Name: c.Field.Name, Text: c.Text})
-		}
-	}
-	return row
 }

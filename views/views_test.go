@@ -50,6 +50,9 @@ func TestRows(t *testing.T) {
 		if e != api.OK || v.HiddenRow(store.Row("p")) != c.hidden || v.HiddenRow(store.Row("")) || (len(v.Rows(store)) == 1) != c.hidden {
 			t.Errorf("to %v there are %v, error %d", c.v, v.Rows(store), e)
 		}
+		if (v.Row(store, "p") == nil) != c.hidden || v.Row(store, "") != store.Row("") || v.Row(store, "none") != nil {
+			t.Errorf("to %v rows are not found as they should", c.v)
+		}
 	}
 }
 
