@@ -5,6 +5,7 @@ import (
 	"strings"
 	"sync"
 	"testing"
+	"unsafe"
 
 	"veil/api"
 )
@@ -212,6 +213,59 @@ func TestServersDoNotKeepWhatIsHandedIn(t *testing.T) {
 	put.Cells[0].Text = `"Eve"`
 	wantPut(t, s, api.OK, row("Person", "y"))
 	wantServe(t, s, all, data(`{"team":[{"name":"Ann","pay":7},{"name":"Bo","pay":null},{"name":"Zoe","pay":null}],"me":{"open":false}}`))
+}
+
+// lent is a text whose memory is not its own: once it is taken back, the text is another one.
+type lent struct{ bytes [][]byte }
+
+func (l *lent) text(s string) string {
+	b := []byte(s + " ")
+	l.bytes = append(l.bytes, b)
+	return unsafe.String(&b[0], len(s))
+}
+
+func (l *lent) takeBack() {
+	for _, b := range l.bytes {
+		for i := range b {
+			b[i] = 'x'
+		}
+	}
+}
+
+func (l *lent) row(r api.Row) api.Row {
+	out := api.Row{Type: l.text(r.Type), ID: l.text(r.ID)}
+	for _, c := range r.Cells {
+		out.Cells = append(out.Cells, api.Cell{Name: l.text(c.Name), Text: l.text(c.Text)})
+	}
+	return out
+}
+
+func TestServersDoNotKeepTexts(t *testing.T) {
+	var l lent
+	var have []api.Row
+	for _, r := range people() {
+		have = append(have, l.row(r))
+	}
+	s := serverOf(t, l.text(example), have...)
+	wantPut(t, s, api.OK, l.row(row("Person", "z", "name", `"Zoe"`, "open", "true")))
+	wantDrop(t, s, api.OK, l.text("b"))
+	a := ask(l.text("user"), l.text(`query($x:ID){me(id:$x){n:name friend{name}}team{name}__types __fields(type:"Person")}`))
+	a.Values = l.text(`{"x":"a"}`)
+	got := s.Serve(a)
+	seen, e := Sees(l.text(example), have, api.Viewer{Role: l.text("user")})
+	l.takeBack()
+	want := data(`{"me":{"n":"Ann","friend":null},"team":[{"name":"Ann"},null,{"name":"Zoe"}],"__types":["Query","Named","Person"],"__fields":["name","open","pay","friend"]}`, `"me","friend"`, `"team",1`)
+	if got != want {
+		t.Errorf("an answer has become %s, want %s", got, want)
+	}
+	if e != api.OK || !sameRows(seen, rows(people()[0], row("Person", "a", "name", `"Ann"`, "open", "true", "friend", `@"b"`))) {
+		t.Errorf("what is seen has become %s, %d", told(seen), e)
+	}
+	b := ask("user", `query($x:ID){me(id:$x){n:name friend{name}}team{name}__types __fields(type:"Person")}`)
+	b.Values = `{"x":"a"}`
+	wantServe(t, s, b, want)
+	wantPut(t, s, api.OK, row("Person", "b", "name", `"Bea"`, "open", "true"))
+	wantServe(t, s, ask("user", "{team{name}}"), data(`{"team":[{"name":"Ann"},{"name":"Bea"},{"name":"Zoe"}]}`))
 }
 
 func TestServersDoNotChangeWhatIsHandedIn(t *testing.T) {
