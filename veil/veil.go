@@ -85,5 +85,17 @@ func (s *Server) kept() *stores.Store {
 // Serve answers an ask (P6).
 func (s *Server) Serve(a api.Ask) string { return answers.Answer(s.kept(), a) }
 
-// ServeAll answers some asks (P7).
-func (s *Server) ServeAll(asks []api.Ask) ([]string, api.Errno) { return nil, api.OK }
+// ServeAll answers some asks (P7). All of them are answered of the store as it is at the call, so that no change that comes meanwhile is seen by some and not by others.
+func (s *Server) ServeAll(asks []api.Ask) ([]string, api.Errno) {
+	if len(asks) > api.MaxAsks {
+		return nil, api.ErrArg
+	}
+	store := s.kept()
+	list := make([]string, len(asks))
+	var all sync.WaitGroup
+	for i, a := range asks {
+		all.Go(func() { list[i] = answers.Answer(store, a) })
+	}
+	all.Wait()
+	return list, api.OK
+}
